@@ -4,7 +4,6 @@ import (
 	"math"
 	"math/rand"
 	"slices"
-	"strings"
 	"testing"
 
 	"customhouse/api"
@@ -12,51 +11,8 @@ import (
 	"customhouse/head"
 	"customhouse/ids"
 	"customhouse/pile"
+	"customhouse/threebits"
 )
-
-// Most tests use three bits of a header, so that its headers can be tried one by one: both ends, and one where the halves meet.
-const smallHeads = 8
-
-func spread(n uint64) api.Head {
-	return api.Head{Hi: n>>2&1<<63 | n>>1&1, Lo: n & 1}
-}
-
-// small is the cube of a pattern of three letters: 0 and 1 are fixed, x is open, and v is a bit of Value that Care does not have, which makes the cube unsound.
-func small(pattern string) api.Cube {
-	var value, care uint64
-	for _, letter := range pattern {
-		value, care = value<<1, care<<1
-		if letter == '1' || letter == 'v' {
-			value |= 1
-		}
-		if letter == '0' || letter == '1' {
-			care |= 1
-		}
-	}
-	return api.Cube{Value: spread(value), Care: spread(care)}
-}
-
-// smalls are the cubes of a text's patterns.
-func smalls(patterns string) []api.Cube {
-	var out []api.Cube
-	for _, p := range strings.Fields(patterns) {
-		out = append(out, small(p))
-	}
-	return out
-}
-
-// smallCubes are all cubes of three letters.
-func smallCubes() []api.Cube {
-	var out []api.Cube
-	for _, a := range "01x" {
-		for _, b := range "01x" {
-			for _, c := range "01x" {
-				out = append(out, small(string([]rune{a, b, c})))
-			}
-		}
-	}
-	return out
-}
 
 // listsOf are all lists of at most n of the cubes.
 func listsOf(cubes []api.Cube, n int) [][]api.Cube {
@@ -74,8 +30,8 @@ func listsOf(cubes []api.Cube, n int) [][]api.Cube {
 
 // part is an atom of a pile of small cubes, with the Pick of it.
 func part(patterns string, numbers ...int) api.Atom {
-	h, _ := pile.Pick(smalls(patterns))
-	return api.Atom{Ids: numbers, Head: h, Pile: smalls(patterns)}
+	h, _ := pile.Pick(threebits.Cubes(patterns))
+	return api.Atom{Ids: numbers, Head: h, Pile: threebits.Cubes(patterns)}
 }
 
 // headed is an atom with another head.
@@ -146,7 +102,7 @@ func coarseByHand(list []api.Atom, id int) []api.Atom {
 
 // unsound are cubes with a bit of Value that Care does not have.
 func unsound() []api.Cube {
-	return append(smalls("vxx xvx xxv 0v1 v11 vvv"), api.Cube{Value: api.Head{Lo: math.MaxUint64}, Care: api.Head{Lo: math.MaxUint64 - 1}})
+	return append(threebits.Cubes("vxx xvx xxv 0v1 v11 vvv"), api.Cube{Value: api.Head{Lo: math.MaxUint64}, Care: api.Head{Lo: math.MaxUint64 - 1}})
 }
 
 // fixed is the headers whose bits from one on are those of a value.
@@ -202,8 +158,8 @@ func rows(from, count int) []api.Cube {
 // checkParts holds atoms against the cubes, header by header: each is in one atom, whose numbers are those of the cubes that it is in.
 func checkParts(t *testing.T, preds []api.Cube, list []api.Atom) {
 	t.Helper()
-	for n := range uint64(smallHeads) {
-		h := spread(n)
+	for n := range uint64(threebits.Heads) {
+		h := threebits.Head(n)
 		var in []int
 		for id, c := range preds {
 			if cube.Has(c, h) {
@@ -226,7 +182,7 @@ func checkParts(t *testing.T, preds []api.Cube, list []api.Atom) {
 }
 
 func TestSplitOfSmallLists(t *testing.T) {
-	for _, preds := range listsOf(smallCubes(), 3) {
+	for _, preds := range listsOf(threebits.All("01x"), 3) {
 		want := []api.Atom{part("xxx")}
 		for id, c := range preds {
 			want, _ = splitByHand(want, id, c)
@@ -257,7 +213,7 @@ func TestSplitWrittenOut(t *testing.T) {
 		{"every header, between others", "1xx xxx 0xx", []api.Atom{part("1xx", 0, 1), part("0xx", 1, 2)}},
 		{"of a pile some cubes, and a part of one", "101 x11", []api.Atom{part("101", 0), part("011 111", 1), part("00x 010 110 100")}},
 	} {
-		got, e := Split(smalls(c.preds))
+		got, e := Split(threebits.Cubes(c.preds))
 		if e != api.OK || !same(got, c.want) {
 			t.Errorf("%s: %v, %d, want %v", c.name, got, e, c.want)
 		}
@@ -275,7 +231,7 @@ func TestSplitOfNoCubes(t *testing.T) {
 
 func TestSplitOfUnsoundCubes(t *testing.T) {
 	for _, bad := range unsound() {
-		for _, good := range [][]api.Cube{nil, smalls("1xx"), smalls("xxx 0x1 000"), ones(0, 20), slices.Repeat(smalls("01x"), api.MaxPreds-1)} {
+		for _, good := range [][]api.Cube{nil, threebits.Cubes("1xx"), threebits.Cubes("xxx 0x1 000"), ones(0, 20), slices.Repeat(threebits.Cubes("01x"), api.MaxPreds-1)} {
 			for _, at := range []int{0, len(good) / 2, len(good)} {
 				if got, e := Split(slices.Insert(slices.Clone(good), at, bad)); got != nil || e != api.ErrForm {
 					t.Errorf("%x at %d of %d: %v, %d", bad, at, len(good)+1, got, e)
@@ -286,14 +242,14 @@ func TestSplitOfUnsoundCubes(t *testing.T) {
 }
 
 func TestSplitOfTooManyCubes(t *testing.T) {
-	for _, c := range []api.Cube{cube.All(), small("101"), small("v01")} {
+	for _, c := range []api.Cube{cube.All(), threebits.Cube("101"), threebits.Cube("v01")} {
 		for _, count := range []int{api.MaxPreds + 1, api.MaxPreds + 2, 2 * api.MaxPreds} {
 			if got, e := Split(slices.Repeat([]api.Cube{c}, count)); got != nil || e != api.ErrFull {
 				t.Errorf("%d times %x: %v, %d", count, c, got, e)
 			}
 		}
 	}
-	got, e := Split(slices.Repeat(smalls("1xx"), api.MaxPreds))
+	got, e := Split(slices.Repeat(threebits.Cubes("1xx"), api.MaxPreds))
 	if e != api.OK || len(got) != 2 || len(got[0].Ids) != api.MaxPreds || !ids.Sound(got[0].Ids) || len(got[1].Ids) != 0 {
 		t.Error("as many cubes as there may be:", got, e)
 	}
@@ -440,20 +396,20 @@ func TestRandomCubes(t *testing.T) {
 func TestFindWrittenOut(t *testing.T) {
 	list := []api.Atom{{Ids: []int{4}}, part("00x"), part("x0x 111"), part("1x1"), part("01x vvv")}
 	for n, want := range []int{1, 1, 4, 4, 2, 2, -1, 2} {
-		got, ok := Find(list, spread(uint64(n)))
+		got, ok := Find(list, threebits.Head(uint64(n)))
 		if ok != (want >= 0) || got != max(want, 0) {
 			t.Errorf("Find of %03b: %d, %t", n, got, ok)
 		}
 	}
-	if n, ok := Find(list[3:], spread(0b111)); n != 0 || !ok {
+	if n, ok := Find(list[3:], threebits.Head(0b111)); n != 0 || !ok {
 		t.Error("in the first one:", n, ok)
 	}
 }
 
 func TestFindInNothing(t *testing.T) {
 	for _, list := range [][]api.Atom{nil, {}, {{}, {Pile: []api.Cube{}}}, {{Pile: unsound()}}} {
-		for n := range uint64(smallHeads) {
-			if n, ok := Find(list, spread(n)); n != 0 || ok {
+		for n := range uint64(threebits.Heads) {
+			if n, ok := Find(list, threebits.Head(n)); n != 0 || ok {
 				t.Errorf("%v: %d, %t", list, n, ok)
 			}
 		}
@@ -462,8 +418,8 @@ func TestFindInNothing(t *testing.T) {
 
 // Neither the Head nor the Ids of an atom tell what is in it.
 func TestFindGoesByThePile(t *testing.T) {
-	list := []api.Atom{headed(part("0xx", 7), spread(0b111)), headed(part("1xx"), spread(0))}
-	if n, ok := Find(list, spread(0b111)); n != 1 || !ok {
+	list := []api.Atom{headed(part("0xx", 7), threebits.Head(0b111)), headed(part("1xx"), threebits.Head(0))}
+	if n, ok := Find(list, threebits.Head(0b111)); n != 1 || !ok {
 		t.Error(n, ok)
 	}
 	many := append(rows(0, 1000), unsound()...)
@@ -501,7 +457,7 @@ func oddLists() [][]api.Atom {
 		{{}, {Ids: []int{2}, Pile: []api.Cube{}}, part("xxx", 1)},
 		{part("xxx"), part("xxx"), part("xxx", 2)},
 		{part("0xx 00x 0xx 1x1 x11", 1), part("1xx 10x", 2, 5), part("11x 11x")},
-		{headed(part("0xx", 1), spread(7)), headed(part("1xx", 4), api.Head{Hi: 9, Lo: 9})},
+		{headed(part("0xx", 1), threebits.Head(7)), headed(part("1xx", 4), api.Head{Hi: 9, Lo: 9})},
 		{part("00x 01x", -5, 8), part("1x0", math.MinInt), part("1x1", math.MaxInt)},
 		{part("0xx", 9, 1, 9, 2), part("10x", 1, 2, 9), part("11x 11x", 2, 1, 9)},
 		{part("x00 0x0", 2), part("0x0 x00", 1, 2), part("x00 x0x 000", 2, 1)},
@@ -510,7 +466,7 @@ func oddLists() [][]api.Atom {
 
 func TestRefineOfOddLists(t *testing.T) {
 	for _, list := range oddLists() {
-		for _, pred := range smallCubes() {
+		for _, pred := range threebits.All("01x") {
 			for _, id := range []int{0, 3, 6, 100} {
 				want, _ := splitByHand(list, id, pred)
 				got, e := Refine(list, id, pred)
@@ -523,9 +479,9 @@ func TestRefineOfOddLists(t *testing.T) {
 }
 
 func TestRefineIsSplitWithACubeMore(t *testing.T) {
-	for _, preds := range listsOf(smallCubes(), 2) {
+	for _, preds := range listsOf(threebits.All("01x"), 2) {
 		list, _ := Split(preds)
-		for _, c := range smallCubes() {
+		for _, c := range threebits.All("01x") {
 			want, _ := Split(append(slices.Clone(preds), c))
 			if got, e := Refine(list, len(preds), c); e != api.OK || !same(got, want) {
 				t.Fatalf("Refine by %x after Split(%x) = %v, %d, want %v", c, preds, got, e, want)
@@ -548,14 +504,14 @@ func TestRefineWrittenOut(t *testing.T) {
 		{"numbers stay in order: first", []api.Atom{part("xxx", 3, 5)}, 0, "xxx", []api.Atom{part("xxx", 0, 3, 5)}},
 		{"numbers stay in order: between", []api.Atom{part("xxx", 3, 5)}, 4, "1xx", []api.Atom{part("1xx", 3, 4, 5), part("0xx", 3, 5)}},
 		{"numbers stay in order: last", []api.Atom{part("xxx", 3, 5)}, math.MaxInt, "xxx", []api.Atom{part("xxx", 3, 5, math.MaxInt)}},
-		{"the heads are new", []api.Atom{headed(part("xxx"), spread(5))}, 0, "x1x", []api.Atom{part("x1x", 0), part("x0x")}},
-		{"the head of what is not cut is new", []api.Atom{headed(part("1xx"), spread(0)), headed(part("01x"), spread(7))}, 0, "1xx", []api.Atom{part("1xx", 0), part("01x")}},
+		{"the heads are new", []api.Atom{headed(part("xxx"), threebits.Head(5))}, 0, "x1x", []api.Atom{part("x1x", 0), part("x0x")}},
+		{"the head of what is not cut is new", []api.Atom{headed(part("1xx"), threebits.Head(0)), headed(part("01x"), threebits.Head(7))}, 0, "1xx", []api.Atom{part("1xx", 0), part("01x")}},
 		{"empty atoms go", []api.Atom{{}, part("1xx", 0), {Ids: []int{2}}}, 1, "0xx", []api.Atom{part("1xx", 0)}},
 		{"what is not cut gets lean, and its head with it", []api.Atom{part("101 1xx 10x"), part("01x 0xx 011")}, 1, "1xx", []api.Atom{part("1xx", 1), part("0xx")}},
 		{"what is cut is lean", []api.Atom{part("1xx x1x")}, 0, "11x", []api.Atom{part("11x", 0), part("10x 01x")}},
 		{"no atoms", nil, 0, "1xx", nil},
 	} {
-		got, e := Refine(c.list, c.id, small(c.pred))
+		got, e := Refine(c.list, c.id, threebits.Cube(c.pred))
 		if e != api.OK || !same(got, c.want) {
 			t.Errorf("%s: %v, %d, want %v", c.name, got, e, c.want)
 		}
@@ -568,9 +524,9 @@ func crowded() api.Atom { return api.Atom{Pile: rows(0, api.MaxCubes+1)} }
 // badPiles are lists in which a pile is not sound, at the beginning, between others, and at the end.
 func badPiles() [][]api.Atom {
 	var out [][]api.Atom
-	bad := []api.Atom{crowded(), {Pile: slices.Repeat(smalls("xxx"), api.MaxCubes+1)}}
+	bad := []api.Atom{crowded(), {Pile: slices.Repeat(threebits.Cubes("xxx"), api.MaxCubes+1)}}
 	for _, c := range unsound() {
-		bad = append(bad, api.Atom{Pile: []api.Cube{c}}, api.Atom{Pile: []api.Cube{small("xxx"), c}}, api.Atom{Pile: []api.Cube{c, small("xxx")}})
+		bad = append(bad, api.Atom{Pile: []api.Cube{c}}, api.Atom{Pile: []api.Cube{threebits.Cube("xxx"), c}}, api.Atom{Pile: []api.Cube{c, threebits.Cube("xxx")}})
 	}
 	for _, a := range bad {
 		for n := range 3 {
@@ -590,11 +546,11 @@ func TestRefineRefuses(t *testing.T) {
 		}
 	}
 	for _, id := range []int{-1, -2, math.MinInt} {
-		refused(good, id, small("1xx"), api.ErrArg)
-		refused(good, id, small("v11"), api.ErrArg)
-		refused([]api.Atom{crowded()}, id, small("1xx"), api.ErrArg)
-		refused([]api.Atom{part("xxx", id)}, id, small("1xx"), api.ErrArg)
-		refused(nil, id, small("1xx"), api.ErrArg)
+		refused(good, id, threebits.Cube("1xx"), api.ErrArg)
+		refused(good, id, threebits.Cube("v11"), api.ErrArg)
+		refused([]api.Atom{crowded()}, id, threebits.Cube("1xx"), api.ErrArg)
+		refused([]api.Atom{part("xxx", id)}, id, threebits.Cube("1xx"), api.ErrArg)
+		refused(nil, id, threebits.Cube("1xx"), api.ErrArg)
 	}
 	for _, id := range []int{0, 1, 3, math.MaxInt} {
 		for _, bad := range unsound() {
@@ -602,13 +558,13 @@ func TestRefineRefuses(t *testing.T) {
 			refused(nil, id, bad, api.ErrForm)
 		}
 		for _, list := range badPiles() {
-			refused(list, id, small("1xx"), api.ErrForm)
-			refused(list, id, small("xxv"), api.ErrForm)
+			refused(list, id, threebits.Cube("1xx"), api.ErrForm)
+			refused(list, id, threebits.Cube("xxv"), api.ErrForm)
 		}
 	}
 	for _, id := range []int{1, 2, 3, 6, 9} {
-		refused(good, id, small("1xx"), api.ErrThere)
-		refused(good, id, small("xxx"), api.ErrThere)
+		refused(good, id, threebits.Cube("1xx"), api.ErrThere)
+		refused(good, id, threebits.Cube("xxx"), api.ErrThere)
 	}
 }
 
@@ -709,7 +665,7 @@ func TestCoarsenOfOddLists(t *testing.T) {
 
 // Without one of its cubes, a Split has the atoms of the other cubes: the headers are parted in the same way.
 func TestCoarsenOfSplits(t *testing.T) {
-	for _, preds := range listsOf(smallCubes(), 3) {
+	for _, preds := range listsOf(threebits.All("01x"), 3) {
 		list, _ := Split(preds)
 		for id := range len(preds) + 1 {
 			got, e := Coarsen(list, id)
@@ -724,18 +680,18 @@ func TestCoarsenOfSplits(t *testing.T) {
 // checkCoarse holds atoms against all cubes but one, header by header. No two of the atoms have the same numbers.
 func checkCoarse(t *testing.T, preds []api.Cube, id int, list []api.Atom) {
 	t.Helper()
-	for n := range uint64(smallHeads) {
+	for n := range uint64(threebits.Heads) {
 		var in []int
 		for m, c := range preds {
-			if m != id && cube.Has(c, spread(n)) {
+			if m != id && cube.Has(c, threebits.Head(n)) {
 				in = append(in, m)
 			}
 		}
 		count := 0
 		for _, a := range list {
-			if pile.Has(a.Pile, spread(n)) && slices.Equal(a.Ids, in) {
+			if pile.Has(a.Pile, threebits.Head(n)) && slices.Equal(a.Ids, in) {
 				count++
-			} else if pile.Has(a.Pile, spread(n)) || slices.Equal(a.Ids, in) {
+			} else if pile.Has(a.Pile, threebits.Head(n)) || slices.Equal(a.Ids, in) {
 				t.Fatalf("%x without %d: header %03b and %v", preds, id, n, a)
 			}
 		}
@@ -760,10 +716,10 @@ func TestCoarsenWrittenOut(t *testing.T) {
 		{"a number below 0", []api.Atom{part("1xx", -1, 1), part("0xx", 1)}, -1, []api.Atom{part("1xx 0xx", 1)}},
 		{"into the earlier one, behind others", []api.Atom{part("00x", 0), part("01x", 1), part("10x", 0, 2), part("11x", 1, 2)}, 2, []api.Atom{part("00x 10x", 0), part("01x 11x", 1)}},
 		{"three become one", []api.Atom{part("00x", 3), part("01x"), part("1xx", 3)}, 3, []api.Atom{part("00x 01x 1xx")}},
-		{"the joined pile is lean", []api.Atom{part("00x 11x"), part("0xx 11x", 3)}, 3, []api.Atom{headed(part("11x 0xx"), spread(0))}},
-		{"the head is the earlier one's", []api.Atom{headed(part("1xx"), spread(6)), headed(part("0xx", 3), spread(3))}, 3, []api.Atom{headed(part("1xx 0xx"), spread(6))}},
-		{"the head is the earlier one's, whatever it is", []api.Atom{headed(part("1xx"), spread(0)), part("0xx", 3)}, 3, []api.Atom{headed(part("1xx 0xx"), spread(0))}},
-		{"the head of an atom that is not merged stays", []api.Atom{headed(part("1xx", 3), spread(1))}, 3, []api.Atom{headed(part("1xx"), spread(1))}},
+		{"the joined pile is lean", []api.Atom{part("00x 11x"), part("0xx 11x", 3)}, 3, []api.Atom{headed(part("11x 0xx"), threebits.Head(0))}},
+		{"the head is the earlier one's", []api.Atom{headed(part("1xx"), threebits.Head(6)), headed(part("0xx", 3), threebits.Head(3))}, 3, []api.Atom{headed(part("1xx 0xx"), threebits.Head(6))}},
+		{"the head is the earlier one's, whatever it is", []api.Atom{headed(part("1xx"), threebits.Head(0)), part("0xx", 3)}, 3, []api.Atom{headed(part("1xx 0xx"), threebits.Head(0))}},
+		{"the head of an atom that is not merged stays", []api.Atom{headed(part("1xx", 3), threebits.Head(1))}, 3, []api.Atom{headed(part("1xx"), threebits.Head(1))}},
 		{"the pile of an atom that is not merged stays", []api.Atom{part("1xx 11x 1xx 0xx", 3)}, 3, []api.Atom{part("1xx 11x 1xx 0xx")}},
 		{"empty atoms stay", []api.Atom{{}, {Ids: []int{3, 4}}, part("1xx", 4)}, 3, []api.Atom{{}, headed(part("1xx", 4), api.Head{})}},
 	} {
@@ -834,9 +790,9 @@ func TestCoarsenHasNoMaxAtoms(t *testing.T) {
 
 // What Refine adds, Coarsen takes away: the same numbers in the same order, with the same headers.
 func TestCoarsenUndoesRefine(t *testing.T) {
-	for _, preds := range listsOf(smallCubes(), 2) {
+	for _, preds := range listsOf(threebits.All("01x"), 2) {
 		list, _ := Split(preds)
-		for _, c := range smallCubes() {
+		for _, c := range threebits.All("01x") {
 			fine, _ := Refine(list, 50, c)
 			got, e := Coarsen(fine, 50)
 			if e != api.OK || len(got) != len(list) {
@@ -864,7 +820,7 @@ func padded(list []api.Atom) (atoms, memory []api.Atom) {
 	atoms = spare(list, part("v0v", -9, -9))
 	memory = slices.Clone(atoms[:len(list)+3])
 	for n, a := range list {
-		a.Ids, a.Pile = spare(a.Ids, -8), spare(a.Pile, small("vvv"))
+		a.Ids, a.Pile = spare(a.Ids, -8), spare(a.Pile, threebits.Cube("vvv"))
 		atoms[n] = a
 		memory[n].Ids, memory[n].Pile = a.Ids[:len(a.Ids)+3], a.Pile[:len(a.Pile)+3]
 	}
@@ -881,7 +837,7 @@ func answers(list []api.Atom, pred api.Cube) [][]api.Atom {
 
 func TestArgumentsAreNotChanged(t *testing.T) {
 	for _, odd := range oddLists() {
-		for _, pred := range smallCubes() {
+		for _, pred := range threebits.All("01x") {
 			list, memory := padded(odd)
 			before := cloned(memory)
 			answers(list, pred)
@@ -892,7 +848,7 @@ func TestArgumentsAreNotChanged(t *testing.T) {
 			}
 		}
 	}
-	preds := spare(smalls("1xx x1x 00x"), small("vvv"))
+	preds := spare(threebits.Cubes("1xx x1x 00x"), threebits.Cube("vvv"))
 	memory := slices.Clone(preds[:6])
 	Split(preds)
 	if !slices.Equal(preds[:6], memory) {
@@ -907,7 +863,7 @@ func overwrite(list []api.Atom) {
 			list[n].Ids[:cap(list[n].Ids)][i] = 4000
 		}
 		for i := range list[n].Pile[:cap(list[n].Pile)] {
-			list[n].Pile[:cap(list[n].Pile)][i] = small("v1v")
+			list[n].Pile[:cap(list[n].Pile)][i] = threebits.Cube("v1v")
 		}
 	}
 	for n := range list[:cap(list)] {
@@ -917,7 +873,7 @@ func overwrite(list []api.Atom) {
 
 func TestResultsShareNoMemoryWithArguments(t *testing.T) {
 	for _, odd := range oddLists() {
-		for _, pred := range smallCubes() {
+		for _, pred := range threebits.All("01x") {
 			list, memory := padded(odd)
 			before := cloned(memory)
 			for _, answer := range answers(list, pred) {
@@ -952,22 +908,22 @@ func checkOwn(t *testing.T, list []api.Atom) {
 }
 
 func TestAtomsOfAResultShareNoMemory(t *testing.T) {
-	for _, preds := range listsOf(smallCubes(), 2) {
-		list, _ := Split(append(preds, small("x11"), small("xxx")))
-		for _, answer := range answers(list, small("1x0")) {
+	for _, preds := range listsOf(threebits.All("01x"), 2) {
+		list, _ := Split(append(preds, threebits.Cube("x11"), threebits.Cube("xxx")))
+		for _, answer := range answers(list, threebits.Cube("1x0")) {
 			checkOwn(t, answer)
 		}
 		checkOwn(t, list)
 	}
 	for _, odd := range oddLists() {
-		for _, pred := range smallCubes() {
+		for _, pred := range threebits.All("01x") {
 			for _, answer := range answers(odd, pred) {
 				checkOwn(t, answer)
 			}
 		}
 	}
 	twice := part("0xx 00x", 1)
-	for _, answer := range answers([]api.Atom{twice, twice, headed(twice, spread(3))}, small("0x1")) {
+	for _, answer := range answers([]api.Atom{twice, twice, headed(twice, threebits.Head(3))}, threebits.Cube("0x1")) {
 		checkOwn(t, answer)
 	}
 }
@@ -983,7 +939,7 @@ func TestOfIsNew(t *testing.T) {
 
 // What a call answers does not hang on the calls ahead of it.
 func TestSplitKeepsNothing(t *testing.T) {
-	preds := smalls("1xx x1x 001")
+	preds := threebits.Cubes("1xx x1x 001")
 	want, _ := Split(preds)
 	want = cloned(want)
 	got, _ := Split(preds)

@@ -8,52 +8,10 @@ import (
 	"customhouse/api"
 	"customhouse/cube"
 	"customhouse/head"
+	"customhouse/threebits"
 )
 
 const all = math.MaxUint64
-
-// Most tests use three bits of a header, so that a cube's headers can be counted one by one: its ends, and one where its halves meet.
-const smallHeads = 8
-
-func spread(n uint64) api.Head {
-	return api.Head{Hi: n>>2&1<<63 | n>>1&1, Lo: n & 1}
-}
-
-// small is the cube of a pattern of three letters: 0 and 1 are fixed, x is open, and v is a bit of Value that Care does not have, which makes the cube unsound.
-func small(pattern string) api.Cube {
-	var value, care uint64
-	for _, letter := range pattern {
-		value, care = value<<1, care<<1
-		if letter == '1' || letter == 'v' {
-			value |= 1
-		}
-		if letter == '0' || letter == '1' {
-			care |= 1
-		}
-	}
-	return api.Cube{Value: spread(value), Care: spread(care)}
-}
-
-func smalls(patterns ...string) []api.Cube {
-	var p []api.Cube
-	for _, s := range patterns {
-		p = append(p, small(s))
-	}
-	return p
-}
-
-// smallCubes are all cubes of three of the letters.
-func smallCubes(letters string) []api.Cube {
-	var out []api.Cube
-	for _, a := range letters {
-		for _, b := range letters {
-			for _, c := range letters {
-				out = append(out, small(string([]rune{a, b, c})))
-			}
-		}
-	}
-	return out
-}
 
 // pilesOf are all lists of at most n of the cubes.
 func pilesOf(cubes []api.Cube, n int) [][]api.Cube {
@@ -82,8 +40,8 @@ func isIn(c api.Cube, h api.Head) bool {
 // headsOf are the small headers of a cube, as a set of bits. A cube that is not sound has none.
 func headsOf(c api.Cube) uint8 {
 	var set uint8
-	for n := range uint64(smallHeads) {
-		if cube.Sound(c) && isIn(c, spread(n)) {
+	for n := range uint64(threebits.Heads) {
+		if cube.Sound(c) && isIn(c, threebits.Head(n)) {
 			set |= 1 << n
 		}
 	}
@@ -139,7 +97,7 @@ func unsound() []api.Cube {
 }
 
 func TestSound(t *testing.T) {
-	for _, p := range [][]api.Cube{nil, {}, {cube.All()}, {cube.All(), cube.All()}, smallCubes("01x"), numbered(0, api.MaxCubes)} {
+	for _, p := range [][]api.Cube{nil, {}, {cube.All()}, {cube.All(), cube.All()}, threebits.All("01x"), numbered(0, api.MaxCubes)} {
 		if !Sound(p) {
 			t.Errorf("%d cubes are not sound", len(p))
 		}
@@ -168,20 +126,20 @@ func TestSoundRefusesUnsoundCubes(t *testing.T) {
 }
 
 func TestHasOfEveryTwo(t *testing.T) {
-	for _, p := range pilesOf(smallCubes("01xv"), 2) {
+	for _, p := range pilesOf(threebits.All("01xv"), 2) {
 		set := headsOfPile(p)
-		for n := range uint64(smallHeads) {
-			if got, want := Has(p, spread(n)), set>>n&1 == 1; got != want {
-				t.Fatalf("Has(%x, %x) = %t", p, spread(n), got)
+		for n := range uint64(threebits.Heads) {
+			if got, want := Has(p, threebits.Head(n)), set>>n&1 == 1; got != want {
+				t.Fatalf("Has(%x, %x) = %t", p, threebits.Head(n), got)
 			}
 		}
 	}
 }
 
 func TestHasWrittenOut(t *testing.T) {
-	p := smalls("0x1", "10x")
+	p := threebits.Cubes("0x1", "10x")
 	for n, want := range []bool{false, true, false, true, true, true, false, false} {
-		if got := Has(p, spread(uint64(n))); got != want {
+		if got := Has(p, threebits.Head(uint64(n))); got != want {
 			t.Errorf("Has of %03b = %t", n, got)
 		}
 	}
@@ -195,7 +153,7 @@ func TestHasWrittenOut(t *testing.T) {
 }
 
 func TestPick(t *testing.T) {
-	for _, p := range pilesOf(smallCubes("01xv"), 2) {
+	for _, p := range pilesOf(threebits.All("01xv"), 2) {
 		var want api.Head
 		there := false
 		for _, c := range slices.Backward(p) {
@@ -210,7 +168,7 @@ func TestPick(t *testing.T) {
 }
 
 func TestPickWrittenOut(t *testing.T) {
-	if h, ok := Pick(smalls("vxx", "x10", "111")); h != small("010").Value || !ok {
+	if h, ok := Pick(threebits.Cubes("vxx", "x10", "111")); h != threebits.Cube("010").Value || !ok {
 		t.Error(h, ok)
 	}
 	if h, ok := Pick([]api.Cube{cube.All()}); h != (api.Head{}) || !ok {
@@ -228,7 +186,7 @@ func TestPickWrittenOut(t *testing.T) {
 }
 
 func TestLeanOfEveryThree(t *testing.T) {
-	for _, p := range append(pilesOf(smallCubes("01x"), 3), pilesOf(smallCubes("01xv"), 2)...) {
+	for _, p := range append(pilesOf(threebits.All("01x"), 3), pilesOf(threebits.All("01xv"), 2)...) {
 		if got, want := Lean(p), leanByHand(p); !slices.Equal(got, want) {
 			t.Fatalf("Lean(%x) = %x, want %x", p, got, want)
 		}
@@ -237,7 +195,7 @@ func TestLeanOfEveryThree(t *testing.T) {
 
 // Long lists of cubes with two or three fixed bits, each cube twice, in many orders.
 func TestLeanOfLongLists(t *testing.T) {
-	narrow := slices.DeleteFunc(smallCubes("01xv"), func(c api.Cube) bool { return head.Ones(c.Care) < 2 })
+	narrow := slices.DeleteFunc(threebits.All("01xv"), func(c api.Cube) bool { return head.Ones(c.Care) < 2 })
 	for step := 1; step < len(narrow); step++ {
 		var p []api.Cube
 		for n := range 2 * len(narrow) {
@@ -256,15 +214,15 @@ func TestLeanWrittenOut(t *testing.T) {
 	}{
 		{"nil", nil, nil},
 		{"empty", []api.Cube{}, nil},
-		{"one", smalls("01x"), smalls("01x")},
-		{"the first one of equal cubes remains", smalls("0xx", "11x", "0xx", "11x"), smalls("0xx", "11x")},
-		{"a later cube swallows earlier ones", smalls("000", "11x", "01x", "0xx"), smalls("11x", "0xx")},
-		{"an earlier cube swallows later ones", smalls("0xx", "000", "11x", "01x"), smalls("0xx", "11x")},
-		{"a chain", smalls("000", "00x", "0xx", "xxx", "0xx", "00x"), smalls("xxx")},
-		{"the order is kept, whatever the width", smalls("111", "0xx", "110", "10x"), smalls("111", "0xx", "110", "10x")},
-		{"overlap is no subset", smalls("0xx", "x1x", "xx1"), smalls("0xx", "x1x", "xx1")},
-		{"a subset of two together remains", smalls("00x", "01x", "0x1"), smalls("00x", "01x", "0x1")},
-		{"unsound cubes go, and swallow nothing", smalls("vxx", "000", "vvv", "xxv", "1xx", "v00"), smalls("000", "1xx")},
+		{"one", threebits.Cubes("01x"), threebits.Cubes("01x")},
+		{"the first one of equal cubes remains", threebits.Cubes("0xx", "11x", "0xx", "11x"), threebits.Cubes("0xx", "11x")},
+		{"a later cube swallows earlier ones", threebits.Cubes("000", "11x", "01x", "0xx"), threebits.Cubes("11x", "0xx")},
+		{"an earlier cube swallows later ones", threebits.Cubes("0xx", "000", "11x", "01x"), threebits.Cubes("0xx", "11x")},
+		{"a chain", threebits.Cubes("000", "00x", "0xx", "xxx", "0xx", "00x"), threebits.Cubes("xxx")},
+		{"the order is kept, whatever the width", threebits.Cubes("111", "0xx", "110", "10x"), threebits.Cubes("111", "0xx", "110", "10x")},
+		{"overlap is no subset", threebits.Cubes("0xx", "x1x", "xx1"), threebits.Cubes("0xx", "x1x", "xx1")},
+		{"a subset of two together remains", threebits.Cubes("00x", "01x", "0x1"), threebits.Cubes("00x", "01x", "0x1")},
+		{"unsound cubes go, and swallow nothing", threebits.Cubes("vxx", "000", "vvv", "xxv", "1xx", "v00"), threebits.Cubes("000", "1xx")},
 		{"unsound cubes alone", unsound(), nil},
 	} {
 		if got := Lean(c.p); !slices.Equal(got, c.want) {
@@ -283,14 +241,14 @@ func TestLeanHasNoLimit(t *testing.T) {
 
 // pairs are piles of at most two small cubes each: all of the first, and some of the second.
 func pairs() [][2][]api.Cube {
-	piles := pilesOf(smallCubes("01x"), 2)
+	piles := pilesOf(threebits.All("01x"), 2)
 	var out [][2][]api.Cube
 	for _, a := range piles {
 		for n := 0; n < len(piles); n += 11 {
 			out = append(out, [2][]api.Cube{a, piles[n]})
 		}
 	}
-	return append(out, [2][]api.Cube{smallCubes("01"), smalls("x1x", "1xx")}, [2][]api.Cube{smalls("xxx"), smallCubes("01")})
+	return append(out, [2][]api.Cube{threebits.All("01"), threebits.Cubes("x1x", "1xx")}, [2][]api.Cube{threebits.Cubes("xxx"), threebits.All("01")})
 }
 
 func TestJoinOfPairs(t *testing.T) {
@@ -352,11 +310,11 @@ func TestLessAndWithinOfPairs(t *testing.T) {
 func TestJoinWrittenOut(t *testing.T) {
 	for _, c := range []struct{ a, b, want []api.Cube }{
 		{nil, nil, nil},
-		{nil, smalls("0xx"), smalls("0xx")},
-		{smalls("0xx"), nil, smalls("0xx")},
-		{smalls("111", "0xx"), smalls("01x", "10x"), smalls("111", "0xx", "10x")},
-		{smalls("000", "111"), smalls("xx0", "000"), smalls("111", "xx0")},
-		{smalls("00x", "00x"), smalls("00x"), smalls("00x")},
+		{nil, threebits.Cubes("0xx"), threebits.Cubes("0xx")},
+		{threebits.Cubes("0xx"), nil, threebits.Cubes("0xx")},
+		{threebits.Cubes("111", "0xx"), threebits.Cubes("01x", "10x"), threebits.Cubes("111", "0xx", "10x")},
+		{threebits.Cubes("000", "111"), threebits.Cubes("xx0", "000"), threebits.Cubes("111", "xx0")},
+		{threebits.Cubes("00x", "00x"), threebits.Cubes("00x"), threebits.Cubes("00x")},
 	} {
 		if got, e := Join(c.a, c.b); !slices.Equal(got, c.want) || e != api.OK {
 			t.Errorf("Join(%x, %x) = %x, %d", c.a, c.b, got, e)
@@ -367,13 +325,13 @@ func TestJoinWrittenOut(t *testing.T) {
 func TestMeetWrittenOut(t *testing.T) {
 	for _, c := range []struct{ a, b, want []api.Cube }{
 		{nil, nil, nil},
-		{nil, smalls("0xx"), nil},
-		{smalls("0xx"), nil, nil},
-		{smalls("0xx"), smalls("1xx"), nil},
-		{smalls("xxx"), smalls("1xx", "x00"), smalls("1xx", "x00")},
-		{smalls("0xx", "x1x"), smalls("xx0", "1xx"), smalls("0x0", "x10", "11x")},
-		{smalls("x1x", "0xx"), smalls("1xx", "xx0"), smalls("11x", "x10", "0x0")},
-		{smalls("00x", "0xx"), smalls("xx1"), smalls("0x1")},
+		{nil, threebits.Cubes("0xx"), nil},
+		{threebits.Cubes("0xx"), nil, nil},
+		{threebits.Cubes("0xx"), threebits.Cubes("1xx"), nil},
+		{threebits.Cubes("xxx"), threebits.Cubes("1xx", "x00"), threebits.Cubes("1xx", "x00")},
+		{threebits.Cubes("0xx", "x1x"), threebits.Cubes("xx0", "1xx"), threebits.Cubes("0x0", "x10", "11x")},
+		{threebits.Cubes("x1x", "0xx"), threebits.Cubes("1xx", "xx0"), threebits.Cubes("11x", "x10", "0x0")},
+		{threebits.Cubes("00x", "0xx"), threebits.Cubes("xx1"), threebits.Cubes("0x1")},
 	} {
 		if got, e := Meet(c.a, c.b); !slices.Equal(got, c.want) || e != api.OK {
 			t.Errorf("Meet(%x, %x) = %x, %d", c.a, c.b, got, e)
@@ -387,13 +345,13 @@ func TestLessWrittenOut(t *testing.T) {
 		a, b, want []api.Cube
 	}{
 		{"nothing of nothing", nil, nil, nil},
-		{"something of nothing", nil, smalls("xxx"), nil},
-		{"all of it", smalls("01x", "1xx"), smalls("xxx"), nil},
-		{"all of it by parts", smalls("0x1"), smalls("00x", "01x"), nil},
-		{"nothing in common", smalls("01x", "001"), smalls("1xx"), smalls("01x", "001")},
-		{"two in order", smalls("xxx"), smalls("11x", "x11"), smalls("00x", "010", "10x")},
-		{"two in the other order", smalls("xxx"), smalls("x11", "11x"), smalls("x0x", "010")},
-		{"differences that are in others", smalls("xx1", "0x1"), smalls("111"), smalls("0x1", "101")},
+		{"something of nothing", nil, threebits.Cubes("xxx"), nil},
+		{"all of it", threebits.Cubes("01x", "1xx"), threebits.Cubes("xxx"), nil},
+		{"all of it by parts", threebits.Cubes("0x1"), threebits.Cubes("00x", "01x"), nil},
+		{"nothing in common", threebits.Cubes("01x", "001"), threebits.Cubes("1xx"), threebits.Cubes("01x", "001")},
+		{"two in order", threebits.Cubes("xxx"), threebits.Cubes("11x", "x11"), threebits.Cubes("00x", "010", "10x")},
+		{"two in the other order", threebits.Cubes("xxx"), threebits.Cubes("x11", "11x"), threebits.Cubes("x0x", "010")},
+		{"differences that are in others", threebits.Cubes("xx1", "0x1"), threebits.Cubes("111"), threebits.Cubes("0x1", "101")},
 	} {
 		if got, e := Less(c.a, c.b); !slices.Equal(got, c.want) || e != api.OK {
 			t.Errorf("%s: %x, %d, want %x", c.name, got, e, c.want)
@@ -403,7 +361,7 @@ func TestLessWrittenOut(t *testing.T) {
 
 // Without a cube of b, no Lean is taken: a stays as it is.
 func TestLessOfNothingIsTheSame(t *testing.T) {
-	for _, a := range [][]api.Cube{smalls("00x", "0xx", "00x"), slices.Repeat(smalls("000"), api.MaxCubes)} {
+	for _, a := range [][]api.Cube{threebits.Cubes("00x", "0xx", "00x"), slices.Repeat(threebits.Cubes("000"), api.MaxCubes)} {
 		for _, b := range [][]api.Cube{nil, {}} {
 			if got, e := Less(a, b); !slices.Equal(got, a) || e != api.OK {
 				t.Errorf("Less of %d cubes and nothing: %d cubes, %d", len(a), len(got), e)
@@ -413,7 +371,7 @@ func TestLessOfNothingIsTheSame(t *testing.T) {
 			}
 		}
 	}
-	if got, e := Less(smalls("00x", "0xx", "00x"), smalls("111")); !slices.Equal(got, smalls("0xx")) || e != api.OK {
+	if got, e := Less(threebits.Cubes("00x", "0xx", "00x"), threebits.Cubes("111")); !slices.Equal(got, threebits.Cubes("0xx")) || e != api.OK {
 		t.Error(got, e)
 	}
 }
@@ -424,12 +382,12 @@ func TestWithinWrittenOut(t *testing.T) {
 		want bool
 	}{
 		{nil, nil, true},
-		{nil, smalls("0xx"), true},
-		{smalls("000"), nil, false},
-		{smalls("xxx"), smalls("0xx", "1xx"), true},
-		{smalls("xxx"), smalls("0xx", "1x1", "11x"), false},
-		{smalls("00x", "11x"), smalls("x0x", "x1x"), true},
-		{smalls("00x", "111"), smalls("x0x"), false},
+		{nil, threebits.Cubes("0xx"), true},
+		{threebits.Cubes("000"), nil, false},
+		{threebits.Cubes("xxx"), threebits.Cubes("0xx", "1xx"), true},
+		{threebits.Cubes("xxx"), threebits.Cubes("0xx", "1x1", "11x"), false},
+		{threebits.Cubes("00x", "11x"), threebits.Cubes("x0x", "x1x"), true},
+		{threebits.Cubes("00x", "111"), threebits.Cubes("x0x"), false},
 	} {
 		if got, e := Within(c.a, c.b); got != c.want || e != api.OK {
 			t.Errorf("Within(%x, %x) = %t, %d", c.a, c.b, got, e)
@@ -581,7 +539,7 @@ func TestLessCountsTheLean(t *testing.T) {
 
 // spare is the pile with spare capacity behind it, filled with a cube that is to stay.
 func spare(p []api.Cube) []api.Cube {
-	out := append(slices.Clone(p), slices.Repeat(smalls("v0v"), 5)...)
+	out := append(slices.Clone(p), slices.Repeat(threebits.Cubes("v0v"), 5)...)
 	return out[:len(p)]
 }
 
@@ -590,16 +548,16 @@ func TestArgumentsStayAndAnswersAreNew(t *testing.T) {
 	ops["Lean"] = func(a, b []api.Cube) ([]api.Cube, api.Errno) { return Lean(a), api.OK }
 	for name, do := range ops {
 		for _, p := range [][2][]api.Cube{
-			{smalls("0xx", "11x"), smalls("100", "x1x")},
-			{smalls("00x", "0xx", "11x"), nil},
-			{nil, smalls("00x", "0xx", "11x")},
-			{smalls("0xx"), smalls("xxx")},
+			{threebits.Cubes("0xx", "11x"), threebits.Cubes("100", "x1x")},
+			{threebits.Cubes("00x", "0xx", "11x"), nil},
+			{nil, threebits.Cubes("00x", "0xx", "11x")},
+			{threebits.Cubes("0xx"), threebits.Cubes("xxx")},
 		} {
 			a, b := spare(p[0]), spare(p[1])
 			first, _ := do(a, b)
 			want := slices.Clone(first)
 			for i := range first[:cap(first)] {
-				first[:cap(first)][i] = small("vvv")
+				first[:cap(first)][i] = threebits.Cube("vvv")
 			}
 			if !slices.Equal(a[:cap(a)], spare(p[0])[:cap(a)]) || !slices.Equal(b[:cap(b)], spare(p[1])[:cap(b)]) {
 				t.Errorf("%s(%x) changed its arguments, or its answer shares their memory", name, p)

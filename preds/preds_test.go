@@ -5,7 +5,6 @@ import (
 	"math/rand"
 	"reflect"
 	"slices"
-	"strings"
 	"testing"
 
 	"customhouse/api"
@@ -13,38 +12,10 @@ import (
 	"customhouse/config"
 	"customhouse/cube"
 	"customhouse/head"
+	"customhouse/threebits"
 	"customhouse/topo"
 	"customhouse/walk"
 )
-
-// spread puts three bits where they are apart in a header: at both ends, and where the halves meet. No stamp sets the two lower ones.
-func spread(n uint64) api.Head {
-	return api.Head{Hi: n>>2&1<<63 | n>>1&1, Lo: n & 1}
-}
-
-// small is the cube of a pattern of three letters: 0 and 1 are fixed, x is open, and v is a bit of Value that Care does not have, which makes the cube unsound.
-func small(pattern string) api.Cube {
-	var value, care uint64
-	for _, letter := range pattern {
-		value, care = value<<1, care<<1
-		if letter == '1' || letter == 'v' {
-			value |= 1
-		}
-		if letter == '0' || letter == '1' {
-			care |= 1
-		}
-	}
-	return api.Cube{Value: spread(value), Care: spread(care)}
-}
-
-// smalls are the cubes of a text's patterns.
-func smalls(patterns string) []api.Cube {
-	var out []api.Cube
-	for _, p := range strings.Fields(patterns) {
-		out = append(out, small(p))
-	}
-	return out
-}
 
 // field is the headers whose bits from one on are those of a value.
 func field(at, bits int, v uint64) api.Cube {
@@ -267,17 +238,17 @@ func TestOfWrittenOut(t *testing.T) {
 		want []api.Cube
 	}{
 		{alone(), nil},
-		{alone(dropsOf(smalls("010 xxx 1xx x0x 010 0xx xx1 1xx"))...), smalls("xxx 1xx x0x 0xx xx1 010")},
+		{alone(dropsOf(threebits.Cubes("010 xxx 1xx x0x 010 0xx xx1 1xx"))...), threebits.Cubes("xxx 1xx x0x 0xx xx1 010")},
 		// No Match has a bit that is set: there is nothing new.
-		{alone(dropping(small("1xx"), small("x1x"))), smalls("1xx")},
+		{alone(dropping(threebits.Cube("1xx"), threebits.Cube("x1x"))), threebits.Cubes("1xx")},
 		// What is set agrees, or not.
-		{alone(dropping(small("110"), small("x1x"))), smalls("1x0 110")},
-		{alone(dropping(small("110"), small("x0x"))), smalls("110")},
-		{alone(dropping(small("110"), small("01x"))), smalls("110")},
-		{alone(dropping(small("110"), small("110"))), smalls("xxx 110")},
+		{alone(dropping(threebits.Cube("110"), threebits.Cube("x1x"))), threebits.Cubes("1x0 110")},
+		{alone(dropping(threebits.Cube("110"), threebits.Cube("x0x"))), threebits.Cubes("110")},
+		{alone(dropping(threebits.Cube("110"), threebits.Cube("01x"))), threebits.Cubes("110")},
+		{alone(dropping(threebits.Cube("110"), threebits.Cube("110"))), threebits.Cubes("xxx 110")},
 		// What was appended is gone through too; for each cube in turn, what each set makes of it.
-		{alone(dropping(small("011"), small("xx1")), dropping(small("01x"), small("0xx"))), smalls("x1x 01x x11 011")},
-		{alone(dropping(small("110"), small("1xx")), dropping(small("111"), small("x1x"))), smalls("xx0 xx1 x10 1x0 x11 1x1 110 111")},
+		{alone(dropping(threebits.Cube("011"), threebits.Cube("xx1")), dropping(threebits.Cube("01x"), threebits.Cube("0xx"))), threebits.Cubes("x1x 01x x11 011")},
+		{alone(dropping(threebits.Cube("110"), threebits.Cube("1xx")), dropping(threebits.Cube("111"), threebits.Cube("x1x"))), threebits.Cubes("xx0 xx1 x10 1x0 x11 1x1 110 111")},
 		// Of the same number of bits, what came first is first.
 		{alone(dropping(all(x, y), x), dropping(x, y)), []api.Cube{cube.All(), x, y, all(x, y)}},
 		{alone(dropping(all(x, y), y), dropping(y, x)), []api.Cube{cube.All(), y, x, all(x, y)}},
@@ -338,7 +309,7 @@ func TestTwoRules(t *testing.T) {
 	var cubes []api.Cube
 	for _, a := range "01x" {
 		for _, b := range "01x" {
-			cubes = append(cubes, small(string([]rune{'x', a, b})))
+			cubes = append(cubes, threebits.Cube(string([]rune{'x', a, b})))
 		}
 	}
 	for _, m := range cubes {
@@ -550,8 +521,8 @@ func bad() map[string]api.Config {
 		"few tables":   func(c *api.Config) { c.Tables = c.Tables[:2] },
 		"no tables":    func(c *api.Config) { c.Tables[1] = nil },
 		"many rules":   func(c *api.Config) { c.Tables[1] = [][]api.Rule{make([]api.Rule, 97)} },
-		"match":        func(c *api.Config) { c.Tables[1][0][0].Match = small("xxv") },
-		"set":          func(c *api.Config) { c.Tables[2][0][1].Do.Set = small("vxx") },
+		"match":        func(c *api.Config) { c.Tables[1][0][0].Match = threebits.Cube("xxv") },
+		"set":          func(c *api.Config) { c.Tables[2][0][1].Do.Set = threebits.Cube("vxx") },
 		"kind":         func(c *api.Config) { c.Tables[2][0][1].Do.Kind = math.MinInt },
 		"port of rule": func(c *api.Config) { c.Tables[2][0][0].Do.Port = 0 },
 		"table":        func(c *api.Config) { c.Tables[0][0][0].Do.Table = 2 },
@@ -638,7 +609,7 @@ func whole(c api.Config) []any {
 func scribble(list []api.Cube) {
 	list = list[:cap(list)]
 	for n := range list {
-		list[n] = small("vvv")
+		list[n] = threebits.Cube("vvv")
 	}
 }
 

@@ -8,40 +8,11 @@ import (
 	"customhouse/api"
 	"customhouse/cube"
 	"customhouse/pile"
+	"customhouse/threebits"
 )
 
-// Most tests use three bits of a header, so that its headers can be tried one by one: both ends, and one where the halves meet.
-const smallHeads = 8
-
-func spread(n uint64) api.Head {
-	return api.Head{Hi: n>>2&1<<63 | n>>1&1, Lo: n & 1}
-}
-
-// small is the cube of a pattern of three letters: 0 and 1 are fixed, x is open, and v is a bit of Value that Care does not have, which makes the cube unsound.
-func small(pattern string) api.Cube {
-	var value, care uint64
-	for _, letter := range pattern {
-		value, care = value<<1, care<<1
-		if letter == '1' || letter == 'v' {
-			value |= 1
-		}
-		if letter == '0' || letter == '1' {
-			care |= 1
-		}
-	}
-	return api.Cube{Value: spread(value), Care: spread(care)}
-}
-
-func smalls(patterns ...string) []api.Cube {
-	var out []api.Cube
-	for _, s := range patterns {
-		out = append(out, small(s))
-	}
-	return out
-}
-
 func smallRule(priority int, pattern string) api.Rule {
-	return api.Rule{Priority: priority, Match: small(pattern), Do: api.Do{Kind: api.Drop}}
+	return api.Rule{Priority: priority, Match: threebits.Cube(pattern), Do: api.Do{Kind: api.Drop}}
 }
 
 // somePatterns are cubes that overlap, are subsets of one another, or have nothing in common.
@@ -100,9 +71,9 @@ func findByHand(list []api.Rule, h api.Head) (int, bool) {
 
 func TestFindOfSmallLists(t *testing.T) {
 	for _, list := range append(listsOf(someRules(somePatterns()), 2), listsOf(someRules([]string{"xxx", "0x1", "01x", "vxx"}), 3)...) {
-		for n := range uint64(smallHeads) {
-			want, there := findByHand(list, spread(n))
-			if got, ok := Find(list, spread(n)); got != want || ok != there {
+		for n := range uint64(threebits.Heads) {
+			want, there := findByHand(list, threebits.Head(n))
+			if got, ok := Find(list, threebits.Head(n)); got != want || ok != there {
 				t.Fatalf("Find(%v, %03b) = %d, %t, want %d, %t", list, n, got, ok, want, there)
 			}
 		}
@@ -112,12 +83,12 @@ func TestFindOfSmallLists(t *testing.T) {
 func TestFindWrittenOut(t *testing.T) {
 	list := []api.Rule{smallRule(1, "0xx"), smallRule(3, "x11"), smallRule(2, "xx0"), smallRule(1, "01x"), smallRule(3, "011"), smallRule(1, "101"), smallRule(0, "1xx")}
 	for n, want := range []int{2, 0, 2, 1, 2, 5, 2, 1} {
-		if got, ok := Find(list, spread(uint64(n))); got != want || !ok {
+		if got, ok := Find(list, threebits.Head(uint64(n))); got != want || !ok {
 			t.Errorf("%03b: %d, %t, want %d", n, got, ok, want)
 		}
 	}
 	for _, n := range []uint64{0b000, 0b001, 0b011, 0b111} {
-		if got, ok := Find([]api.Rule{smallRule(9, "1x0"), smallRule(1, "010"), smallRule(5, "101")}, spread(n)); got != 0 || ok {
+		if got, ok := Find([]api.Rule{smallRule(9, "1x0"), smallRule(1, "010"), smallRule(5, "101")}, threebits.Head(n)); got != 0 || ok {
 			t.Errorf("%03b: %d, %t", n, got, ok)
 		}
 	}
@@ -153,9 +124,9 @@ func TestFindByExtremePriorities(t *testing.T) {
 }
 
 func TestFindLooksAtNothingElse(t *testing.T) {
-	odd := api.Do{Kind: -1, Port: 99, Table: math.MinInt, Set: small("vvv")}
-	list := []api.Rule{{Match: small("1xx")}, {Match: small("0xx"), Do: odd}, {Match: small("xxx")}}
-	if n, ok := Find(list, spread(0b010)); n != 1 || !ok {
+	odd := api.Do{Kind: -1, Port: 99, Table: math.MinInt, Set: threebits.Cube("vvv")}
+	list := []api.Rule{{Match: threebits.Cube("1xx")}, {Match: threebits.Cube("0xx"), Do: odd}, {Match: threebits.Cube("xxx")}}
+	if n, ok := Find(list, threebits.Head(0b010)); n != 1 || !ok {
 		t.Error(n, ok)
 	}
 }
@@ -163,12 +134,12 @@ func TestFindLooksAtNothingElse(t *testing.T) {
 // No header is in a cube that is not sound, whatever its Care.
 func TestFindOfUnsoundMatches(t *testing.T) {
 	list := []api.Rule{smallRule(9, "vxx"), smallRule(9, "1v1"), smallRule(0, "11x"), smallRule(9, "vvv")}
-	for n := range uint64(smallHeads) {
+	for n := range uint64(threebits.Heads) {
 		want, there := 0, n>>1 == 0b11
 		if there {
 			want = 2
 		}
-		if got, ok := Find(list, spread(n)); got != want || ok != there {
+		if got, ok := Find(list, threebits.Head(n)); got != want || ok != there {
 			t.Errorf("%03b: %d, %t", n, got, ok)
 		}
 	}
@@ -219,9 +190,9 @@ func TestSeenOfSmallLists(t *testing.T) {
 			if want := lessByHand(list[n].Match, list, places[:k]); e != api.OK || !slices.Equal(got, want) {
 				t.Fatalf("Seen(%v, %d) = %x, %d, want %x", list, n, got, e, want)
 			}
-			for h := range uint64(smallHeads) {
-				first, ok := findByHand(list, spread(h))
-				if pile.Has(got, spread(h)) != (ok && first == n) {
+			for h := range uint64(threebits.Heads) {
+				first, ok := findByHand(list, threebits.Head(h))
+				if pile.Has(got, threebits.Head(h)) != (ok && first == n) {
 					t.Fatalf("Seen(%v, %d) = %x, with %03b", list, n, got, h)
 				}
 			}
@@ -235,8 +206,8 @@ func TestMissedOfSmallLists(t *testing.T) {
 		if want := lessByHand(cube.All(), list, triedByHand(list)); e != api.OK || !slices.Equal(got, want) {
 			t.Fatalf("Missed(%v) = %x, %d, want %x", list, got, e, want)
 		}
-		for h := range uint64(smallHeads) {
-			if _, ok := findByHand(list, spread(h)); pile.Has(got, spread(h)) == ok {
+		for h := range uint64(threebits.Heads) {
+			if _, ok := findByHand(list, threebits.Head(h)); pile.Has(got, threebits.Head(h)) == ok {
 				t.Fatalf("Missed(%v) = %x, with %03b", list, got, h)
 			}
 		}
@@ -246,8 +217,8 @@ func TestMissedOfSmallLists(t *testing.T) {
 func TestIdleOfSmallLists(t *testing.T) {
 	for _, list := range append(listsOf(someRules(somePatterns()), 2), listsOf(someRules([]string{"xxx", "0x1", "01x", "x10"}), 3)...) {
 		busy := make([]bool, len(list))
-		for h := range uint64(smallHeads) {
-			if n, ok := findByHand(list, spread(h)); ok {
+		for h := range uint64(threebits.Heads) {
+			if n, ok := findByHand(list, threebits.Head(h)); ok {
 				busy[n] = true
 			}
 		}
@@ -271,14 +242,14 @@ func TestSeenWrittenOut(t *testing.T) {
 		n    int
 		want []api.Cube
 	}{
-		{"alone", []api.Rule{smallRule(0, "01x")}, 0, smalls("01x")},
-		{"behind the others in the list", []api.Rule{smallRule(1, "11x"), smallRule(1, "x11"), smallRule(1, "xxx")}, 2, smalls("00x", "010", "10x")},
-		{"and the other way round", []api.Rule{smallRule(1, "x11"), smallRule(1, "11x"), smallRule(1, "xxx")}, 2, smalls("x0x", "010")},
-		{"by priority", []api.Rule{smallRule(1, "11x"), smallRule(2, "x11"), smallRule(0, "xxx")}, 2, smalls("x0x", "010")},
-		{"ahead of others in the list", []api.Rule{smallRule(0, "xxx"), smallRule(1, "11x"), smallRule(1, "x11")}, 0, smalls("00x", "010", "10x")},
-		{"the first one that is tried", []api.Rule{smallRule(1, "xxx"), smallRule(2, "11x"), smallRule(1, "x11")}, 1, smalls("11x")},
-		{"a part of it", []api.Rule{smallRule(2, "1xx"), smallRule(1, "x1x"), smallRule(9, "0x0")}, 1, smalls("011")},
-		{"equal rules, the first", []api.Rule{smallRule(3, "1xx"), smallRule(3, "1xx")}, 0, smalls("1xx")},
+		{"alone", []api.Rule{smallRule(0, "01x")}, 0, threebits.Cubes("01x")},
+		{"behind the others in the list", []api.Rule{smallRule(1, "11x"), smallRule(1, "x11"), smallRule(1, "xxx")}, 2, threebits.Cubes("00x", "010", "10x")},
+		{"and the other way round", []api.Rule{smallRule(1, "x11"), smallRule(1, "11x"), smallRule(1, "xxx")}, 2, threebits.Cubes("x0x", "010")},
+		{"by priority", []api.Rule{smallRule(1, "11x"), smallRule(2, "x11"), smallRule(0, "xxx")}, 2, threebits.Cubes("x0x", "010")},
+		{"ahead of others in the list", []api.Rule{smallRule(0, "xxx"), smallRule(1, "11x"), smallRule(1, "x11")}, 0, threebits.Cubes("00x", "010", "10x")},
+		{"the first one that is tried", []api.Rule{smallRule(1, "xxx"), smallRule(2, "11x"), smallRule(1, "x11")}, 1, threebits.Cubes("11x")},
+		{"a part of it", []api.Rule{smallRule(2, "1xx"), smallRule(1, "x1x"), smallRule(9, "0x0")}, 1, threebits.Cubes("011")},
+		{"equal rules, the first", []api.Rule{smallRule(3, "1xx"), smallRule(3, "1xx")}, 0, threebits.Cubes("1xx")},
 		{"equal rules, the second", []api.Rule{smallRule(3, "1xx"), smallRule(3, "1xx")}, 1, nil},
 		{"nothing by two together", []api.Rule{smallRule(0, "x1x"), smallRule(5, "0xx"), smallRule(4, "1xx")}, 0, nil},
 	} {
@@ -296,9 +267,9 @@ func TestMissedWrittenOut(t *testing.T) {
 	}{
 		{"nil", nil, []api.Cube{cube.All()}},
 		{"empty", []api.Rule{}, []api.Cube{cube.All()}},
-		{"one", []api.Rule{smallRule(0, "01x")}, smalls("1xx", "00x")},
-		{"in the list's order", []api.Rule{smallRule(1, "11x"), smallRule(1, "x11")}, smalls("00x", "010", "10x")},
-		{"by priority", []api.Rule{smallRule(1, "11x"), smallRule(2, "x11")}, smalls("x0x", "010")},
+		{"one", []api.Rule{smallRule(0, "01x")}, threebits.Cubes("1xx", "00x")},
+		{"in the list's order", []api.Rule{smallRule(1, "11x"), smallRule(1, "x11")}, threebits.Cubes("00x", "010", "10x")},
+		{"by priority", []api.Rule{smallRule(1, "11x"), smallRule(2, "x11")}, threebits.Cubes("x0x", "010")},
 		{"nothing by one", []api.Rule{smallRule(5, "1xx"), smallRule(1, "xxx"), smallRule(0, "000")}, nil},
 		{"nothing by two", []api.Rule{smallRule(5, "1xx"), smallRule(5, "0xx")}, nil},
 	} {
@@ -342,7 +313,7 @@ func TestSeenOfNoRule(t *testing.T) {
 func TestUnsoundMatches(t *testing.T) {
 	for place := range 4 {
 		for _, priority := range []int{0, 5, 9} {
-			for _, bad := range []api.Cube{small("vxx"), small("xvx"), small("0xv"), small("vvv"), {Value: api.Head{Hi: 1}, Care: api.Head{Lo: 1}}} {
+			for _, bad := range []api.Cube{threebits.Cube("vxx"), threebits.Cube("xvx"), threebits.Cube("0xv"), threebits.Cube("vvv"), {Value: api.Head{Hi: 1}, Care: api.Head{Lo: 1}}} {
 				list := slices.Insert([]api.Rule{smallRule(5, "0xx"), smallRule(5, "xx1"), smallRule(5, "111")}, place, api.Rule{Priority: priority, Match: bad})
 				for n := range list {
 					if p, e := Seen(list, n); e != api.ErrForm || len(p) != 0 {
@@ -362,12 +333,12 @@ func TestUnsoundMatches(t *testing.T) {
 
 // Nothing but the Match has to be sound.
 func TestSeenLooksAtNothingElse(t *testing.T) {
-	odd := api.Do{Kind: -1, Port: 99, Table: math.MinInt, Set: small("vvv")}
-	list := []api.Rule{{Priority: math.MinInt, Match: small("xxx"), Do: odd}, {Priority: math.MaxInt, Match: small("1xx"), Do: odd}, {Priority: -1, Match: small("11x"), Do: odd}}
-	if p, e := Seen(list, 0); e != api.OK || !slices.Equal(p, smalls("0xx")) {
+	odd := api.Do{Kind: -1, Port: 99, Table: math.MinInt, Set: threebits.Cube("vvv")}
+	list := []api.Rule{{Priority: math.MinInt, Match: threebits.Cube("xxx"), Do: odd}, {Priority: math.MaxInt, Match: threebits.Cube("1xx"), Do: odd}, {Priority: -1, Match: threebits.Cube("11x"), Do: odd}}
+	if p, e := Seen(list, 0); e != api.OK || !slices.Equal(p, threebits.Cubes("0xx")) {
 		t.Error(p, e)
 	}
-	if p, e := Missed(list[1:]); e != api.OK || !slices.Equal(p, smalls("0xx")) {
+	if p, e := Missed(list[1:]); e != api.OK || !slices.Equal(p, threebits.Cubes("0xx")) {
 		t.Error(p, e)
 	}
 	if idle, e := Idle(list); e != api.OK || !slices.Equal(idle, []int{2}) {
@@ -416,7 +387,7 @@ func TestTooManyCubes(t *testing.T) {
 
 // Too many cubes are an error also on the way to fewer, or to none.
 func TestTooManyCubesOnTheWay(t *testing.T) {
-	list := append(wide(128), api.Rule{Priority: 7, Match: small("xxx")}, api.Rule{Priority: 6, Match: small("xxx")})
+	list := append(wide(128), api.Rule{Priority: 7, Match: threebits.Cube("xxx")}, api.Rule{Priority: 6, Match: threebits.Cube("xxx")})
 	if p, e := Missed(list); e != api.ErrCubes || len(p) != 0 {
 		t.Error(p, e)
 	}
@@ -454,7 +425,7 @@ func TestIdleTellsNothingBesideAnError(t *testing.T) {
 
 // An unsound Match comes ahead of too many cubes.
 func TestUnsoundAheadOfTooMany(t *testing.T) {
-	list := append(wide(128), api.Rule{}, api.Rule{Match: small("vxx")})
+	list := append(wide(128), api.Rule{}, api.Rule{Match: threebits.Cube("vxx")})
 	if _, e := Seen(list, 2); e != api.ErrForm {
 		t.Error(e)
 	}
@@ -588,8 +559,8 @@ func TestSoundOfRules(t *testing.T) {
 		"goto with a port":        {api.Do{Kind: api.Goto, Port: 1, Table: 2}, api.ErrForm},
 		"no kind":                 {api.Do{}, api.ErrForm},
 		"a kind too far":          {api.Do{Kind: 5}, api.ErrForm},
-		"sets bits":               {api.Do{Kind: api.Drop, Set: small("01x")}, api.OK},
-		"sets bits unsoundly":     {api.Do{Kind: api.Drop, Set: small("01v")}, api.ErrForm},
+		"sets bits":               {api.Do{Kind: api.Drop, Set: threebits.Cube("01x")}, api.OK},
+		"sets bits unsoundly":     {api.Do{Kind: api.Drop, Set: threebits.Cube("01v")}, api.ErrForm},
 	} {
 		for table := range 3 {
 			for place := range 3 {
@@ -721,7 +692,7 @@ func TestResultsShareNoMemory(t *testing.T) {
 		first, _ := ask()
 		second, _ := ask()
 		want := slices.Clone(first)
-		spoil(first, small("000"))
+		spoil(first, threebits.Cube("000"))
 		third, _ := ask()
 		if !slices.Equal(second, want) || !slices.Equal(third, want) {
 			t.Errorf("%s: %x and %x, want %x", name, second, third, want)

@@ -4,61 +4,17 @@ import (
 	"math"
 	"math/rand"
 	"slices"
-	"strings"
 	"testing"
 
 	"customhouse/api"
 	"customhouse/cube"
 	"customhouse/head"
+	"customhouse/threebits"
 )
-
-// Most tests use three bits of a header, so that its headers can be tried one by one: both ends, and one where the halves meet.
-const smallHeads = 8
-
-func spread(n uint64) api.Head {
-	return api.Head{Hi: n>>2&1<<63 | n>>1&1, Lo: n & 1}
-}
-
-// small is the cube of a pattern of three letters: 0 and 1 are fixed, x is open, and v is a bit of Value that Care does not have, which makes the cube unsound.
-func small(pattern string) api.Cube {
-	var value, care uint64
-	for _, letter := range pattern {
-		value, care = value<<1, care<<1
-		if letter == '1' || letter == 'v' {
-			value |= 1
-		}
-		if letter == '0' || letter == '1' {
-			care |= 1
-		}
-	}
-	return api.Cube{Value: spread(value), Care: spread(care)}
-}
-
-// smalls are the cubes of a text's patterns.
-func smalls(patterns string) []api.Cube {
-	var out []api.Cube
-	for _, p := range strings.Fields(patterns) {
-		out = append(out, small(p))
-	}
-	return out
-}
-
-// smallCubes are all cubes of three letters.
-func smallCubes() []api.Cube {
-	var out []api.Cube
-	for _, a := range "01x" {
-		for _, b := range "01x" {
-			for _, c := range "01x" {
-				out = append(out, small(string([]rune{a, b, c})))
-			}
-		}
-	}
-	return out
-}
 
 // unsound are cubes with a bit of Value that Care does not have.
 func unsound() []api.Cube {
-	return append(smalls("vxx xvx xxv 0v1 v11 vvv"), api.Cube{Value: api.Head{Lo: math.MaxUint64}, Care: api.Head{Lo: math.MaxUint64 - 1}})
+	return append(threebits.Cubes("vxx xvx xxv 0v1 v11 vvv"), api.Cube{Value: api.Head{Lo: math.MaxUint64}, Care: api.Head{Lo: math.MaxUint64 - 1}})
 }
 
 // fixed is the headers whose bits from one on are those of a value.
@@ -123,10 +79,10 @@ func holds(t *testing.T, a *Trie, f flat, heads []api.Head, cubes []api.Cube) {
 func smallHolds(t *testing.T, a *Trie, f flat) {
 	t.Helper()
 	var heads []api.Head
-	for n := range uint64(smallHeads) {
-		heads = append(heads, spread(n))
+	for n := range uint64(threebits.Heads) {
+		heads = append(heads, threebits.Head(n))
 	}
-	holds(t, a, f, heads, append(smallCubes(), unsound()...))
+	holds(t, a, f, heads, append(threebits.All("01x"), unsound()...))
 }
 
 // tidy tells whether a node is as the trie's remarks have it.
@@ -196,7 +152,7 @@ func TestNewIsEmpty(t *testing.T) {
 func TestWrittenOut(t *testing.T) {
 	a := New()
 	for id, p := range []string{"xxx", "0xx", "01x", "011", "xx1", "1x0", "x10", "011"} {
-		add(t, a, 10*id, small(p))
+		add(t, a, 10*id, threebits.Cube(p))
 	}
 	if n := a.Len(); n != 8 {
 		t.Errorf("Len: %d", n)
@@ -211,7 +167,7 @@ func TestWrittenOut(t *testing.T) {
 		{0, 50, 60},
 		{0, 40},
 	} {
-		if got := a.Match(spread(uint64(n))); !slices.Equal(got, want) {
+		if got := a.Match(threebits.Head(uint64(n))); !slices.Equal(got, want) {
 			t.Errorf("Match %03b: %v", n, got)
 		}
 	}
@@ -229,7 +185,7 @@ func TestWrittenOut(t *testing.T) {
 		{"vxx", nil},
 		{"01v", nil},
 	} {
-		if got := a.Overlap(small(c.pattern)); !slices.Equal(got, c.want) {
+		if got := a.Overlap(threebits.Cube(c.pattern)); !slices.Equal(got, c.want) {
 			t.Errorf("Overlap %s: %v", c.pattern, got)
 		}
 	}
@@ -241,7 +197,7 @@ func TestWrittenOut(t *testing.T) {
 			t.Errorf("Remove %d: %t", c.id, got)
 		}
 	}
-	if got := a.Match(spread(3)); !slices.Equal(got, []int{10, 20, 40, 70}) {
+	if got := a.Match(threebits.Head(3)); !slices.Equal(got, []int{10, 20, 40, 70}) {
 		t.Errorf("Match after Remove: %v", got)
 	}
 	if n := a.Len(); n != 6 {
@@ -252,7 +208,7 @@ func TestWrittenOut(t *testing.T) {
 func TestAddErrors(t *testing.T) {
 	add4 := func() *Trie {
 		a := New()
-		add(t, a, 4, small("01x"))
+		add(t, a, 4, threebits.Cube("01x"))
 		return a
 	}
 	for _, c := range []struct {
@@ -273,12 +229,12 @@ func TestAddErrors(t *testing.T) {
 		{5, "100", api.OK},
 		{math.MaxInt, "100", api.OK},
 	} {
-		a, f := add4(), flat{4: small("01x")}
-		if e := a.Add(c.id, small(c.pattern)); e != c.want {
+		a, f := add4(), flat{4: threebits.Cube("01x")}
+		if e := a.Add(c.id, threebits.Cube(c.pattern)); e != c.want {
 			t.Errorf("Add %d %s: %d, not %d", c.id, c.pattern, e, c.want)
 		}
 		if c.want == api.OK {
-			f[c.id] = small(c.pattern)
+			f[c.id] = threebits.Cube(c.pattern)
 		}
 		smallHolds(t, a, f)
 		wholeHolds(t, a, f)
@@ -293,7 +249,7 @@ func TestAddErrors(t *testing.T) {
 func TestNil(t *testing.T) {
 	var a *Trie
 	for _, id := range []int{-1, 0, 1, math.MaxInt} {
-		for _, p := range smalls("xxx 010 vxx") {
+		for _, p := range threebits.Cubes("xxx 010 vxx") {
 			if e := a.Add(id, p); e != api.ErrArg {
 				t.Errorf("Add: %d", e)
 			}
@@ -305,7 +261,7 @@ func TestNil(t *testing.T) {
 	if l := a.Match(api.Head{}); len(l) != 0 {
 		t.Errorf("Match: %v", l)
 	}
-	for _, p := range smalls("xxx 010 vxx") {
+	for _, p := range threebits.Cubes("xxx 010 vxx") {
 		if l := a.Overlap(p); len(l) != 0 {
 			t.Errorf("Overlap: %v", l)
 		}
@@ -322,13 +278,13 @@ func TestZeroTrie(t *testing.T) {
 	if a.Remove(0) {
 		t.Error("Remove of nothing")
 	}
-	add(t, &a, 0, small("01x"))
-	smallHolds(t, &a, flat{0: small("01x")})
+	add(t, &a, 0, threebits.Cube("01x"))
+	smallHolds(t, &a, flat{0: threebits.Cube("01x")})
 }
 
 // All lists of three small cubes, and what is left of them when they go, in several orders.
 func TestSmallCubes(t *testing.T) {
-	cubes := smallCubes()
+	cubes := threebits.All("01x")
 	orders := [][3]int{{0, 1, 2}, {2, 1, 0}, {1, 2, 0}}
 	turn := 0
 	for _, x := range cubes {
@@ -488,12 +444,12 @@ func TestSearchIsNarrow(t *testing.T) {
 func TestSameCube(t *testing.T) {
 	a, f := New(), flat{}
 	for _, id := range []int{5, 2, 9, 0, 7, 1} {
-		add(t, a, id, small("0x1"))
-		f[id] = small("0x1")
+		add(t, a, id, threebits.Cube("0x1"))
+		f[id] = threebits.Cube("0x1")
 	}
-	add(t, a, 6, small("0xx"))
-	f[6] = small("0xx")
-	if l := a.Match(spread(1)); !slices.Equal(l, []int{0, 1, 2, 5, 6, 7, 9}) {
+	add(t, a, 6, threebits.Cube("0xx"))
+	f[6] = threebits.Cube("0xx")
+	if l := a.Match(threebits.Head(1)); !slices.Equal(l, []int{0, 1, 2, 5, 6, 7, 9}) {
 		t.Errorf("%v", l)
 	}
 	for _, id := range []int{9, 5, 0, 1, 2, 7, 6} {
@@ -523,7 +479,7 @@ func TestExtremeIds(t *testing.T) {
 // What a call answered is the caller's, all of it.
 func TestMemory(t *testing.T) {
 	a, f := New(), flat{}
-	for id, p := range smalls("xxx 0xx xxx x1x xxx") {
+	for id, p := range threebits.Cubes("xxx 0xx xxx x1x xxx") {
 		add(t, a, id, p)
 		f[id] = p
 	}
@@ -532,43 +488,43 @@ func TestMemory(t *testing.T) {
 			l[:cap(l)][n] = -9
 		}
 	}
-	first, second := a.Match(spread(2)), a.Match(spread(2))
+	first, second := a.Match(threebits.Head(2)), a.Match(threebits.Head(2))
 	spoil(first)
 	if !slices.Equal(second, []int{0, 1, 2, 3, 4}) {
 		t.Errorf("Match: %v", second)
 	}
-	first, second = a.Overlap(small("xxx")), a.Overlap(small("xxx"))
+	first, second = a.Overlap(threebits.Cube("xxx")), a.Overlap(threebits.Cube("xxx"))
 	spoil(first)
 	if !slices.Equal(second, []int{0, 1, 2, 3, 4}) {
 		t.Errorf("Overlap: %v", second)
 	}
 	only := New()
 	for _, id := range []int{3, 1} {
-		add(t, only, id, small("0xx"))
+		add(t, only, id, threebits.Cube("0xx"))
 	}
-	spoil(only.Match(spread(2)))
-	spoil(only.Overlap(small("0xx")))
-	smallHolds(t, only, flat{1: small("0xx"), 3: small("0xx")})
-	before := a.Match(spread(2))
-	add(t, a, 5, small("xxx"))
+	spoil(only.Match(threebits.Head(2)))
+	spoil(only.Overlap(threebits.Cube("0xx")))
+	smallHolds(t, only, flat{1: threebits.Cube("0xx"), 3: threebits.Cube("0xx")})
+	before := a.Match(threebits.Head(2))
+	add(t, a, 5, threebits.Cube("xxx"))
 	a.Remove(0)
 	if !slices.Equal(before, []int{0, 1, 2, 3, 4}) {
 		t.Errorf("an earlier answer: %v", before)
 	}
 	delete(f, 0)
-	f[5] = small("xxx")
+	f[5] = threebits.Cube("xxx")
 	smallHolds(t, a, f)
 }
 
 // What one trie has is no other one's.
 func TestTriesApart(t *testing.T) {
 	a, b := New(), New()
-	add(t, a, 1, small("0xx"))
-	add(t, b, 1, small("1xx"))
-	add(t, b, 2, small("xxx"))
+	add(t, a, 1, threebits.Cube("0xx"))
+	add(t, b, 1, threebits.Cube("1xx"))
+	add(t, b, 2, threebits.Cube("xxx"))
 	if !a.Remove(1) || a.Remove(2) {
 		t.Error("Remove")
 	}
 	smallHolds(t, a, flat{})
-	smallHolds(t, b, flat{1: small("1xx"), 2: small("xxx")})
+	smallHolds(t, b, flat{1: threebits.Cube("1xx"), 2: threebits.Cube("xxx")})
 }
